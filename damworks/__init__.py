@@ -1,0 +1,1 @@
+"""Damworks: water kept and let go month by month, with exact best plans and certificates."""

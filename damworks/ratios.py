@@ -1,0 +1,47 @@
+"""Whole numbers, and ratios: pairs (top, bottom) in lowest terms, the bottom positive."""
+
+from math import gcd
+
+
+def is_whole(value):
+    """Whether the value is an integer; True and False are not."""
+    return isinstance(value, int) and not isinstance(value, bool)
+
+
+def is_between(value, least, most):
+    """Whether the value is an integer from least to most."""
+    return is_whole(value) and least <= value <= most
+
+
+def is_row_between(value, least, most):
+    """Whether the value is a tuple of integers from least to most."""
+    return isinstance(value, tuple) and all(is_between(number, least, most) for number in value)
+
+
+def is_ratio(value):
+    """Whether the value is a ratio."""
+    if not (isinstance(value, tuple) and len(value) == 2):
+        return False
+    top, bottom = value
+    return is_whole(top) and is_whole(bottom) and bottom > 0 and gcd(top, bottom) == 1
+
+
+def ratio(top, bottom):
+    """The ratio of an integer and a positive one."""
+    shared = gcd(top, bottom)
+    return (top // shared, bottom // shared)
+
+
+def plus(one, other):
+    """The sum of two ratios."""
+    return ratio(one[0] * other[1] + other[0] * one[1], one[1] * other[1])
+
+
+def minus(one, other):
+    """The first ratio less the second one."""
+    return ratio(one[0] * other[1] - other[0] * one[1], one[1] * other[1])
+
+
+def is_less(one, other):
+    """Whether the first ratio is less than the second one."""
+    return one[0] * other[1] < other[0] * one[1]
