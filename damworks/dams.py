@@ -1,6 +1,6 @@
 """Dams, plans and demands: what they are, and how a dam runs with them."""
 
-from damworks.errors import BadDam, BadDemands, BadInflows, BadPlan
+from damworks.errors import BadDam, BadDemands, BadInflows, BadPlan, NoPlan
 from damworks.ratios import is_between, is_less, is_ratio, is_row_between, minus, plus
 
 MOST_WATER = 1000
@@ -38,6 +38,15 @@ def check_demands(demands, count):
     """Raise BadDemands unless the value is a tuple of demands for so many months."""
     if not (is_row_between(demands, 0, MOST_WATER) and len(demands) == count):
         raise BadDemands("not a tuple of demands, one for each month")
+
+
+def check_has_plan(dam):
+    """Raise NoPlan if the dam has no plan: if even what spills alone leaves too little for the end."""
+    capacity, held, end, inflows = dam
+    for inflow in inflows:
+        held = min(capacity, held + inflow)
+    if held < end:
+        raise NoPlan("the end cannot be held")
 
 
 def levels_behind(dam, releases):

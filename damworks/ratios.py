@@ -45,3 +45,21 @@ def minus(one, other):
 def is_less(one, other):
     """Whether the first ratio is less than the second one."""
     return one[0] * other[1] < other[0] * one[1]
+
+
+def least_ratio(ratios):
+    """The least of some ratios."""
+    least = ratios[0]
+    for one in ratios:
+        if is_less(one, least):
+            least = one
+    return least
+
+
+def greatest_ratio(ratios):
+    """The greatest of some ratios."""
+    greatest = ratios[0]
+    for one in ratios:
+        if is_less(greatest, one):
+            greatest = one
+    return greatest

@@ -63,6 +63,6 @@ def shows_storage(inflows, demands, is_round, value):
     if storage is None or storage == 0:
         return value is None
     # Only integers may be looked for among the rows: True would be found in the place of 1.
-    if not (is_row_between(value, 0, len(inflows)) and len(value) == 2):
+    if not (is_row_between(value, 0, len(inflows)) and value in rows_of_months(len(inflows), is_round)):
         return False
-    return value in rows_of_months(len(inflows), is_round) and lack_of_row(inflows, demands, value) == storage
+    return lack_of_row(inflows, demands, value) == storage

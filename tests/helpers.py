@@ -1,6 +1,8 @@
 """What several tests need: values of every kind, and how errors are looked at."""
 
 import copy
+import random
+from fractions import Fraction
 
 from damworks.errors import DamError
 
@@ -28,6 +30,27 @@ BAD_DEMANDS = (
     None, True, 3, "34", (), [3, 4], {0: 3}, (3,), (3, 4, 5), (3, True), (False, 0), (3, None), (3, "4"), (3, (4,)),
     (3, -1), (1001, 0), ((3, 1), (4, 1)),
 )
+
+
+WORTHS = (((2, 5), (9, 1)), ((4, 3),))
+
+# Values that are no worths for a dam of two months, each with the index of its error.
+BAD_WORTHS = (
+    (None, None), (True, None), (5, None), ("ab", None), ([], None), ([(), ()], None), ({0: ()}, None), ((), None),
+    (((),), None), (((), (), ()), None), ((((2, 5),),), None),
+    (([], ()), 0), (((), []), 1), ((None, ()), 0), (((), None), 1), ((5, 5), 0), (((), "ab"), 1), (({}, ()), 0),
+    (((), ((2, 5), (9, 5))), 1), (((), ((2, 5), (9, 6))), 1), ((((9, 1), (2, 5)), ()), 0),
+    (((), ((1, 4), (1, 3), (1, 2), (1, 1))), 1), ((((1, 4), (1, 3), (1, 2), (1, 1)), None), 0),
+    (((), ((0, 1),)), 1), (((), ((1, 0),)), 1), (((), ((1001, 1),)), 1), (((), ((1, 1001),)), 1),
+    ((((-1, 5),), ()), 0), ((((True, 5),), ()), 0), ((((2, True),), ()), 0), ((((2, 5, 1),), ()), 0),
+    ((((2,),), ()), 0), (((2, 5), ()), 0), (((), ([2, 5],)), 1), (((), ({2: 5, 9: 1},)), 1), (((), [(2, 5)]), 1),
+    (((), (("2", 5),)), 1), (((), ((2, (5, 1)),)), 1), (((), (None,)), 1), ((((1, 1), (1, 1), None), ()), 0),
+)
+
+NO_PLAN_DAMS = ((10, 2, 10, (3, 4)), (1000, 0, 1, (0, 0)), (5, 0, 5, (4, 0)), (7, 6, 7, (0, 0)))
+
+# Dams whose ends can just be held.
+JUST_PLAN_DAMS = ((10, 3, 10, (3, 4)), (1000, 0, 1, (0, 1)), (5, 0, 5, (5, 0)), (7, 7, 7, (0, 0)), (0, 0, 0, (0, 0)))
 
 
 def error_of(function, *args):
@@ -83,3 +106,51 @@ def near_pairs(pair):
 def windows(count):
     """All pairs (first, last) of months."""
     return [(first, last) for first in range(count) for last in range(first, count)]
+
+
+def water_of_window(dam, first, last, end):
+    """What the months from the first to the last one can have at most, less so much if the last one is the last."""
+    capacity, start, _, inflows = dam
+    held = start if first == 0 else capacity
+    return held + sum(inflows[first:last + 1]) - (end if last == len(inflows) - 1 else 0)
+
+
+def gives(dam, demands, end):
+    """Whether all demands, any numbers, are given in full, and so much is held in the end."""
+    capacity, held, _, inflows = dam
+    for inflow, demand in zip(inflows, demands):
+        held = min(capacity, held + inflow - demand)
+        if held < 0:
+            return False
+    return held >= end
+
+
+def has_plan(dam):
+    """Whether the end can be held if nothing is released."""
+    return gives(dam, (0,) * len(dam[3]), dam[2])
+
+
+def some_dams(many, seed):
+    """Dams of all lengths, with plans and without, for tests that go through many."""
+    dice = random.Random(seed)
+    for _ in range(many):
+        capacity = dice.choice((0, 1, 2, 3, 5, 8, 20, 1000))
+        most = dice.choice((1, 3, 9, 30))
+        inflows = tuple(dice.randint(0, most) for _ in range(dice.choice((1, 2, 2, 3, 3, 4, 5, 7, 12))))
+        ends = (0, capacity, dice.randint(0, capacity), dice.randint(0, capacity))
+        yield capacity, dice.choice((0, capacity, dice.randint(0, capacity))), dice.choice(ends), inflows
+
+
+def some_demands(dam, seed):
+    """Demands for a dam that it can give sometimes."""
+    dice = random.Random(seed)
+    most = dice.choice((1, 4, 9, 40))
+    return tuple(dice.choice((0, dice.randint(0, most), dice.randint(0, most))) for _ in dam[3])
+
+
+def fraction(value):
+    """The fraction of a ratio; it fails for what is no ratio."""
+    top, bottom = value
+    found = Fraction(top, bottom)
+    assert same(value, (found.numerator, found.denominator)), value
+    return found
