@@ -74,6 +74,16 @@ def check_refused(test, function, args, place, name, values, **fields):
                 test.assertEqual(given, before)
 
 
+def check_worths_refused(test, function, args):
+    """A function of a dam, worths and more arguments refuses wrong dams and worths, and, behind all, no plan."""
+    check_refused(test, function, (DAM, WORTHS) + args, 0, "BadDam", BAD_DAMS)
+    for value, index in BAD_WORTHS:
+        for dam in (DAM, NO_PLAN_DAMS[0]):
+            check_refused(test, function, (dam, WORTHS) + args, 1, "BadWorths", [value], index=index)
+    for dam in NO_PLAN_DAMS:
+        test.assertEqual(error_of(function, dam, WORTHS, *args), ("NoPlan", {}))
+
+
 def check_shows(test, function, args, right, others=()):
     """Of values of every kind and the others, the function shows just the right ones."""
     wrong = tuple(value for value in KINDS if value is not None) + tuple(others)

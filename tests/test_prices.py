@@ -5,7 +5,7 @@ import unittest
 
 from damworks.prices import shows_prices, water_prices, worth_of_room, worth_of_water
 from tests.helpers import (
-    BAD_DAMS, BAD_WORTHS, DAM, JUST_PLAN_DAMS, KINDS, NO_PLAN_DAMS, WORTHS, check_refused, check_shows, error_of,
+    DAM, JUST_PLAN_DAMS, KINDS, NO_PLAN_DAMS, WORTHS, check_refused, check_shows, check_worths_refused, error_of,
 )
 from tests.test_worths import best_another_way, many_worths
 
@@ -87,13 +87,7 @@ class PricesTest(unittest.TestCase):
     def test_wrong_arguments(self):
         calls = ((water_prices, ()), (worth_of_room, ()), (shows_prices, (None,)), (worth_of_water, (0,)))
         for function, args in calls:
-            check_refused(self, function, (DAM, WORTHS) + args, 0, "BadDam", BAD_DAMS)
-            for value, index in BAD_WORTHS:
-                check_refused(self, function, (DAM, WORTHS) + args, 1, "BadWorths", [value], index=index)
-                # NoPlan comes behind the errors of all arguments.
-                check_refused(self, function, (NO_PLAN_DAMS[0], WORTHS) + args, 1, "BadWorths", [value], index=index)
-            for dam in NO_PLAN_DAMS:
-                self.assertEqual(error_of(function, dam, WORTHS, *args), ("NoPlan", {}))
+            check_worths_refused(self, function, args)
 
 
 class WorthOfMoreTest(unittest.TestCase):

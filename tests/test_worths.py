@@ -8,8 +8,8 @@ from fractions import Fraction
 from damworks.dams import levels
 from damworks.worths import best_plan, best_worth, plan_worth, shows_best
 from tests.helpers import (
-    BAD_DAMS, BAD_WORTHS, DAM, JUST_PLAN_DAMS, KINDS, NO_PLAN_DAMS, WORTHS, check_refused, check_shows, error_of,
-    fraction, has_plan, some_dams,
+    BAD_DAMS, BAD_WORTHS, DAM, JUST_PLAN_DAMS, KINDS, NO_PLAN_DAMS, WORTHS, check_refused, check_shows,
+    check_worths_refused, error_of, fraction, has_plan, some_dams,
 )
 from tests.test_dams import BAD_PLANS
 
@@ -160,13 +160,7 @@ class BestWorthTest(unittest.TestCase):
 
     def test_wrong_arguments(self):
         for function, args in ((best_worth, ()), (best_plan, ()), (shows_best, (None,))):
-            check_refused(self, function, (DAM, WORTHS) + args, 0, "BadDam", BAD_DAMS)
-            for value, index in BAD_WORTHS:
-                check_refused(self, function, (DAM, WORTHS) + args, 1, "BadWorths", [value], index=index)
-                # NoPlan comes behind the errors of all arguments.
-                check_refused(self, function, (NO_PLAN_DAMS[0], WORTHS) + args, 1, "BadWorths", [value], index=index)
-            for dam in NO_PLAN_DAMS:
-                self.assertEqual(error_of(function, dam, WORTHS, *args), ("NoPlan", {}))
+            check_worths_refused(self, function, args)
 
 
 class ShowsBestTest(unittest.TestCase):
