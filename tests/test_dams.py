@@ -73,6 +73,11 @@ class LevelsTest(unittest.TestCase):
         self.assertEqual(levels((0, 0, 0, (3, 0)), ((3, 1), (0, 1))), ((0, 1), (0, 1)))
         self.assertEqual(error_of(levels, (0, 0, 0, (3, 0)), ((2, 1), (1, 1))), ("BadPlan", {}))
 
+    def test_a_bottom_is_positive(self):
+        self.assertEqual(levels((0, 0, 0, (0,)), ((0, 1),)), ((0, 1),))
+        for release in ((0, -1), (0, 0), (0, 2), (1, 0)):
+            self.assertEqual(error_of(levels, (0, 0, 0, (0,)), (release,)), ("BadPlan", {}))
+
     def test_a_dam_without_a_plan(self):
         self.assertEqual(error_of(levels, (10, 0, 10, (3, 4)), ((0, 1), (0, 1))), ("BadPlan", {}))
 
