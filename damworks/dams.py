@@ -1,7 +1,7 @@
 """Dams, plans and demands: what they are, and how a dam runs with them."""
 
 from damworks.errors import BadDam, BadDemands, BadInflows, BadPlan, NoPlan
-from damworks.ratios import is_between, is_less, is_ratio, is_row_between, minus, plus
+from damworks.ratios import is_between, is_less, is_row_between, is_row_of_ratios, minus, plus
 
 MOST_WATER = 1000
 MOST_MONTHS = 12
@@ -49,28 +49,32 @@ def check_has_plan(dam):
         raise NoPlan("the end cannot be held")
 
 
-def levels_behind(dam, releases):
-    """What would be held behind each month, be it below nothing or above the capacity."""
-    _, start, _, inflows = dam
-    held = (start, 1)
+def levels_from(start, coming, releases):
+    """What would be held behind each month, be it below nothing or above the capacity; all are ratios."""
+    held = start
     behind = []
-    for inflow, release in zip(inflows, releases):
-        held = minus(plus(held, (inflow, 1)), release)
+    for water, release in zip(coming, releases):
+        held = minus(plus(held, water), release)
         behind.append(held)
     return tuple(behind)
 
 
-def is_plan(dam, value):
-    """Whether the value is a plan for the dam."""
-    capacity, _, end, inflows = dam
-    if not (isinstance(value, tuple) and len(value) == len(inflows)):
-        return False
-    if not all(is_ratio(release) and release[0] >= 0 for release in value):
-        return False
-    behind = levels_behind(dam, value)
+def levels_behind(dam, releases):
+    """What a dam would hold behind each month with its own inflows alone."""
+    return levels_from((dam[1], 1), [(inflow, 1) for inflow in dam[3]], releases)
+
+
+def can_hold(dam, behind):
+    """Whether a dam can hold so much behind each month, and holds its end in the end."""
+    capacity, _, end, _ = dam
     if any(is_less(held, (0, 1)) or is_less((capacity, 1), held) for held in behind):
         return False
     return not is_less(behind[-1], (end, 1))
+
+
+def is_plan(dam, value):
+    """Whether the value is a plan for the dam."""
+    return is_row_of_ratios(value, len(dam[3])) and can_hold(dam, levels_behind(dam, value))
 
 
 def check_plan(dam, plan):

@@ -1,6 +1,6 @@
 """Whole numbers, and ratios: pairs (top, bottom) in lowest terms, the bottom positive."""
 
-from math import gcd
+from math import gcd, lcm
 
 
 def is_whole(value):
@@ -26,6 +26,13 @@ def is_ratio(value):
     return is_whole(top) and is_whole(bottom) and bottom > 0 and gcd(top, bottom) == 1
 
 
+def is_row_of_ratios(value, count):
+    """Whether the value is a tuple of so many ratios from 0 on."""
+    if not (isinstance(value, tuple) and len(value) == count):
+        return False
+    return all(is_ratio(one) and one[0] >= 0 for one in value)
+
+
 def ratio(top, bottom):
     """The ratio of an integer and a positive one."""
     shared = gcd(top, bottom)
@@ -40,6 +47,42 @@ def plus(one, other):
 def minus(one, other):
     """The first ratio less the second one."""
     return ratio(one[0] * other[1] - other[0] * one[1], one[1] * other[1])
+
+
+def times(one, other):
+    """The product of two ratios."""
+    return ratio(one[0] * other[0], one[1] * other[1])
+
+
+def divided(one, other):
+    """The first ratio divided by the second one, which is positive."""
+    return ratio(one[0] * other[1], one[1] * other[0])
+
+
+def excess(one, other):
+    """What the first ratio is more than the second one, 0 if it is not more."""
+    return minus(one, other) if is_less(other, one) else (0, 1)
+
+
+def sum_of_ratios(ratios):
+    """The sum of some ratios."""
+    total = (0, 1)
+    for one in ratios:
+        total = plus(total, one)
+    return total
+
+
+def common_bottom(ratios):
+    """The least bottom that all of some ratios can be given."""
+    common = 1
+    for _, bottom in ratios:
+        common = lcm(common, bottom)
+    return common
+
+
+def top_over(one, common):
+    """The top of a ratio over a bottom that it can be given."""
+    return one[0] * (common // one[1])
 
 
 def is_less(one, other):

@@ -22,12 +22,19 @@ def is_pairs(value, most):
     return all(before[1] > behind[1] for before, behind in zip(value, value[1:]))
 
 
-def check_worths(worths, months):
-    """Raise BadWorths unless the value is worths for so many months."""
+def is_worths(value, months, most):
+    """Whether the value is worths for so many months, of at most so many pairs each."""
+    if not (isinstance(value, tuple) and len(value) == months):
+        return False
+    return all(is_pairs(pairs, most) for pairs in value)
+
+
+def check_worths(worths, months, most=MOST_PAIRS):
+    """Raise BadWorths unless the value is worths for so many months, of at most so many pairs each."""
     if not (isinstance(worths, tuple) and len(worths) == months):
         raise BadWorths(None)
     for month, pairs in enumerate(worths):
-        if not is_pairs(pairs, MOST_PAIRS):
+        if not is_pairs(pairs, most):
             raise BadWorths(month)
 
 
@@ -144,6 +151,13 @@ def best_levels(dam, worths, curves):
     return behind
 
 
+def best_releases(dam, worths):
+    """What is released in each month with a best plan, integers."""
+    behind = best_levels(dam, worths, level_curves(dam, worths))
+    before = [dam[1]] + behind
+    return [held + inflow - kept for held, inflow, kept in zip(before, dam[3], behind)]
+
+
 def best_worth(dam, worths):
     """The greatest worth of all plans."""
     check_dam_and_worths(dam, worths)
@@ -155,9 +169,7 @@ def best_plan(dam, worths):
     """A plan of the greatest worth."""
     check_dam_and_worths(dam, worths)
     check_has_plan(dam)
-    behind = best_levels(dam, worths, level_curves(dam, worths))
-    before = [dam[1]] + behind
-    return tuple([(held + inflow - kept, 1) for held, inflow, kept in zip(before, dam[3], behind)])
+    return tuple([(release, 1) for release in best_releases(dam, worths)])
 
 
 def shows_best(dam, worths, value):

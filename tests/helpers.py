@@ -164,3 +164,64 @@ def fraction(value):
     found = Fraction(top, bottom)
     assert same(value, (found.numerator, found.denominator)), value
     return found
+
+
+# Values that are no ratios.
+BAD_RATIOS = (
+    None, True, False, 0, 1, 5, "1/2", "12", (), (1,), (1, 2, 3), [1, 2], {1: 2}, (2, 4), (0, 2), (5, 5), (0, 0), (1, 0),
+    (1, -2), (0, -1), (-1, -2), (True, 2), (1, True), (False, 1), (None, 1), (1, None), ("1", 2), (1, "2"), ((1,), 2),
+    ([1], [2]), ((1, 2), 1), ((0, 1), (1, 1)),
+)
+
+
+def near_ratios(row):
+    """Values that look like a tuple of ratios and are none."""
+    found = [list(row), dict(enumerate(row)), str(row), row + (None,), row + (0,), (row,), row[0]]
+    for place in sorted({0, len(row) // 2, len(row) - 1}):
+        top, bottom = row[place]
+        for one in (
+            (2 * top, 2 * bottom), (-top, -bottom), (top, 0), [top, bottom], {top: bottom}, top, str(top), None,
+            (top, bottom, 1), (top,), (bool(top), bottom), (top, True), (str(top), bottom), (top, None), ((top,), bottom),
+        ):
+            found.append(row[:place] + (one,) + row[place + 1:])
+    return found
+
+
+def ratios(row):
+    """The tuple of the ratios of some fractions or integers."""
+    return tuple((Fraction(one).numerator, Fraction(one).denominator) for one in row)
+
+
+def fractions(row):
+    """The fractions of a tuple of ratios; it fails for what is no such tuple."""
+    assert isinstance(row, tuple), row
+    return [fraction(one) for one in row]
+
+
+def half_plans(dam):
+    """All plans of halves of integers, as fractions."""
+    capacity, start, end, inflows = dam
+    plans = [((), 2 * start)]
+    for inflow in inflows:
+        plans = [
+            (plan + (Fraction(release, 2),), held + 2 * inflow - release)
+            for plan, held in plans
+            for release in range(held + 2 * inflow + 1)
+            if held + 2 * inflow - release <= 2 * capacity
+        ]
+    return [plan for plan, held in plans if held >= 2 * end]
+
+
+def worth_of(pairs, release):
+    """What a release, a half of an integer, is worth, half a unit by half a unit."""
+    prices = [price for amount, price in pairs for _ in range(2 * amount)]
+    return sum((Fraction(price, 2) for price in prices[:int(2 * release)]), Fraction(0))
+
+
+def some_worths(months, dice, most, pairs=3):
+    """Worths for so many months."""
+    found = []
+    for _ in range(months):
+        prices = sorted(dice.sample(range(1, most + 3), dice.randint(0, pairs)), reverse=True)
+        found.append(tuple((dice.randint(1, most), price) for price in prices))
+    return tuple(found)

@@ -1,23 +1,15 @@
 """Point 8: worths, the best worth and best plans."""
 
-import itertools
 import random
 import unittest
-from fractions import Fraction
 
 from damworks.dams import levels
 from damworks.worths import best_plan, best_worth, plan_worth, shows_best
 from tests.helpers import (
-    BAD_DAMS, BAD_WORTHS, DAM, JUST_PLAN_DAMS, KINDS, NO_PLAN_DAMS, WORTHS, check_refused, check_shows,
-    check_worths_refused, error_of, fraction, has_plan, some_dams,
+    BAD_DAMS, BAD_WORTHS, DAM, JUST_PLAN_DAMS, NO_PLAN_DAMS, WORTHS, check_refused, check_shows, check_worths_refused,
+    error_of, fraction, half_plans, has_plan, ratios, some_dams, some_worths, worth_of,
 )
 from tests.test_dams import BAD_PLANS
-
-
-def worth_of(pairs, release):
-    """What a release is worth, half a unit by half a unit."""
-    prices = [price for amount, price in pairs for _ in range(2 * amount)]
-    return sum((Fraction(price, 2) for price in prices[:int(2 * release)]), Fraction(0))
 
 
 def best_another_way(dam, worths):
@@ -36,34 +28,6 @@ def best_another_way(dam, worths):
                 after[kept] = max(found, after.get(kept, 0))
         best = after
     return max((worth for held, worth in best.items() if held >= end), default=None)
-
-
-def half_plans(dam):
-    """All plans of halves of integers."""
-    capacity, start, end, inflows = dam
-    plans = [((), 2 * start)]
-    for inflow in inflows:
-        plans = [
-            (plan + (Fraction(release, 2),), held + 2 * inflow - release)
-            for plan, held in plans
-            for release in range(held + 2 * inflow + 1)
-            if held + 2 * inflow - release <= 2 * capacity
-        ]
-    return [plan for plan, held in plans if held >= 2 * end]
-
-
-def ratios(plan):
-    """The plan of some fractions."""
-    return tuple((release.numerator, release.denominator) for release in plan)
-
-
-def some_worths(months, dice, most):
-    """Worths for so many months."""
-    found = []
-    for _ in range(months):
-        prices = sorted(dice.sample(range(1, most + 3), dice.randint(0, 3)), reverse=True)
-        found.append(tuple((dice.randint(1, most), price) for price in prices))
-    return tuple(found)
 
 
 def many_worths(many, seed):

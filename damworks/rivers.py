@@ -1,0 +1,208 @@
+"""Rivers: dams above other dams, what their water is worth at most, and prices that show it."""
+
+from damworks.dams import can_hold, is_dam, levels_from
+from damworks.errors import BadRiver, BadRiverWorths, NoPlan
+from damworks.flows import add_arc, best_gains, send, sent_through, worth_of_arcs
+from damworks.prices import bound_of_prices, is_prices
+from damworks.ratios import is_between, is_row_of_ratios, plus, sum_of_ratios
+from damworks.worths import is_worths, releases_worth
+
+MOST_DAMS = 3
+MOST_MONTHS = 5
+MOST_DELAY = 2
+MOST_PAIRS = 2
+
+
+def is_link(value, index, count):
+    """Whether the value is what stands at an index of a river of so many dams, the others not looked at."""
+    if not (isinstance(value, tuple) and len(value) == 3):
+        return False
+    dam, target, delay = value
+    if not (is_dam(dam) and len(dam[3]) <= MOST_MONTHS and is_between(delay, 0, MOST_DELAY)):
+        return False
+    return delay == 0 if target is None else is_between(target, index + 1, count - 1)
+
+
+def months_of(river):
+    """How many months a river has."""
+    return len(river[0][0][3])
+
+
+def check_river(river):
+    """Raise BadRiver unless the value is a river."""
+    if not (isinstance(river, tuple) and 1 <= len(river) <= MOST_DAMS):
+        raise BadRiver(None)
+    for index, link in enumerate(river):
+        if not (is_link(link, index, len(river)) and len(link[0][3]) == months_of(river)):
+            raise BadRiver(index)
+
+
+def check_river_and_worths(river, worths):
+    """Raise the error of the first argument that is wrong."""
+    check_river(river)
+    if not (isinstance(worths, tuple) and len(worths) == len(river)):
+        raise BadRiverWorths(None)
+    for index, some in enumerate(worths):
+        if not is_worths(some, months_of(river), MOST_PAIRS):
+            raise BadRiverWorths(index)
+
+
+def next_month(river, index, month):
+    """The pair (dam, month) to which what a dam releases in a month comes, None if it is lost."""
+    _, target, delay = river[index]
+    if target is None or month + delay >= months_of(river):
+        return None
+    return (target, month + delay)
+
+
+def place_in(river, at):
+    """The number of the place of a pair (dam, month), or of the sink for None."""
+    if at is None:
+        return len(river) * months_of(river)
+    return at[0] * months_of(river) + at[1]
+
+
+def all_water(river):
+    """All water there is in a river."""
+    return sum([dam[1] + sum(dam[3]) for dam, _, _ in river])
+
+
+def worth_of_ends(worths):
+    """What a unit of water held in the end is taken to be worth: more than all other water together."""
+    return 1 + sum([amount * price for some in worths for pairs in some for amount, price in pairs])
+
+
+def add_releases(arcs, river, worths, index, month):
+    """Add the arcs by which the water of a dam leaves in a month; return their numbers."""
+    place = place_in(river, (index, month))
+    head = place_in(river, next_month(river, index, month))
+    # There is room for one unit more than all water, so that there is always a price of one unit more.
+    pairs = worths[index][month] + ((all_water(river) + 1, 0),)
+    return [add_arc(arcs, place, head, amount, price) for amount, price in pairs]
+
+
+def add_holds(arcs, river, worths, index, month):
+    """Add the arcs by which the water of a dam is held behind a month."""
+    capacity, _, end, _ = river[index][0]
+    place = place_in(river, (index, month))
+    if month + 1 < months_of(river):
+        add_arc(arcs, place, place + 1, capacity, 0)
+    else:
+        add_arc(arcs, place, place_in(river, None), end, worth_of_ends(worths))
+        add_arc(arcs, place, place_in(river, None), capacity - end, 0)
+
+
+def best_river(river, worths):
+    """The greatest worth of a river, a best river plan, and river prices; NoPlan is raised if there are none."""
+    sink = place_in(river, None)
+    months = range(months_of(river))
+    arcs = []
+    releasing = []
+    for index in range(len(river)):
+        rows = []
+        for month in months:
+            add_holds(arcs, river, worths, index, month)
+            rows.append(add_releases(arcs, river, worths, index, month))
+        releasing.append(rows)
+    for index, (dam, _, _) in enumerate(river):
+        send(arcs, place_in(river, (index, 0)), dam[1], sink)
+        for month in months:
+            send(arcs, place_in(river, (index, month)), dam[3][month], sink)
+    held, worth = divmod(worth_of_arcs(arcs), worth_of_ends(worths))
+    if held < sum([dam[2] for dam, _, _ in river]):
+        raise NoPlan("not all ends can be held")
+    plan = tuple([tuple([(sent_through(arcs, numbers), 1) for numbers in rows]) for rows in releasing])
+    gains, _ = best_gains(arcs, sink)
+    prices = [tuple([gains[place_in(river, (index, month))] for month in months]) for index in range(len(river))]
+    return worth, plan, tuple(prices)
+
+
+def river_worth(river, worths):
+    """The greatest sum of what the releases of all dams are worth."""
+    check_river_and_worths(river, worths)
+    return best_river(river, worths)[0]
+
+
+def river_plan(river, worths):
+    """A river plan of the greatest worth."""
+    check_river_and_worths(river, worths)
+    return best_river(river, worths)[1]
+
+
+def river_prices(river, worths):
+    """River prices whose bound is the greatest worth."""
+    check_river_and_worths(river, worths)
+    return best_river(river, worths)[2]
+
+
+def come_waters(river, plan):
+    """What comes to each dam in each month, its inflows and what is released above it."""
+    come = [[(inflow, 1) for inflow in dam[3]] for dam, _, _ in river]
+    for index, releases in enumerate(plan):
+        for month, release in enumerate(releases):
+            at = next_month(river, index, month)
+            if at is not None:
+                come[at[0]][at[1]] = plus(come[at[0]][at[1]], release)
+    return come
+
+
+def is_river_plan(river, value):
+    """Whether the value is a river plan."""
+    if not (isinstance(value, tuple) and len(value) == len(river)):
+        return False
+    if not all(is_row_of_ratios(releases, months_of(river)) for releases in value):
+        return False
+    return all([
+        can_hold(dam, levels_from((dam[1], 1), come, releases))
+        for (dam, _, _), come, releases in zip(river, come_waters(river, value), value)
+    ])
+
+
+def shows_river(river, worths, value):
+    """Whether the value is a river plan of the greatest worth."""
+    worth = river_worth(river, worths)
+    if not is_river_plan(river, value):
+        return False
+    return sum_of_ratios([releases_worth(some, releases) for some, releases in zip(worths, value)]) == (worth, 1)
+
+
+def next_price(river, prices, index, month):
+    """The price where what a dam releases in a month comes to, 0 where it is lost."""
+    at = next_month(river, index, month)
+    return 0 if at is None else prices[at[0]][at[1]]
+
+
+def next_prices(river, prices, index):
+    """The next prices of all months of a dam."""
+    return [next_price(river, prices, index, month) for month in range(months_of(river))]
+
+
+def is_river_prices(river, value):
+    """Whether the value is river prices."""
+    if not (isinstance(value, tuple) and len(value) == len(river)):
+        return False
+    if not all(is_prices(prices, months_of(river)) for prices in value):
+        return False
+    for index, prices in enumerate(value):
+        if any([price < behind for price, behind in zip(prices, next_prices(river, value, index))]):
+            return False
+    return True
+
+
+def bound_of_river(river, worths, prices):
+    """The bound of some river prices, which no river plan is worth more than."""
+    bound = 0
+    for index, (dam, _, _) in enumerate(river):
+        behind = next_prices(river, prices, index)
+        dearer = [
+            [(amount, price + more) for amount, price in pairs]
+            for pairs, more in zip(worths[index], behind)
+        ]
+        bound += bound_of_prices(dam, dearer, prices[index])
+    return bound
+
+
+def shows_river_prices(river, worths, value):
+    """Whether the value is river prices whose bound is the greatest worth."""
+    worth = river_worth(river, worths)
+    return is_river_prices(river, value) and bound_of_river(river, worths, value) == worth
