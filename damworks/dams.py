@@ -1,6 +1,6 @@
 """Dams, plans and demands: what they are, and how a dam runs with them."""
 
-from damworks.errors import BadDam, BadDemands, BadInflows, BadPlan, NoPlan
+from damworks.errors import BadCapacity, BadDam, BadDemands, BadInflows, BadPlan, NoPlan
 from damworks.ratios import is_between, is_less, is_row_between, is_row_of_ratios, minus, plus
 
 MOST_WATER = 1000
@@ -32,6 +32,12 @@ def check_inflows(inflows):
     """Raise BadInflows unless the value is a tuple of inflows."""
     if not is_inflows(inflows):
         raise BadInflows("not a tuple of inflows")
+
+
+def check_capacity(capacity, most=MOST_WATER):
+    """Raise BadCapacity unless the value is a capacity, at most so great."""
+    if not is_between(capacity, 0, most):
+        raise BadCapacity("not a capacity")
 
 
 def check_demands(demands, count):

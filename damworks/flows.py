@@ -52,11 +52,16 @@ def best_way(arcs, place, sink):
     return way
 
 
+def room_of_way(arcs, way):
+    """How much more can go on all arcs of a way."""
+    return min([arcs[number][2] for number in way])
+
+
 def send(arcs, place, amount, sink):
     """Send so much from a place to the sink in the best way, what has been sent before turned where that is better."""
     while amount > 0:
         way = best_way(arcs, place, sink)
-        sent = min([amount] + [arcs[number][2] for number in way])
+        sent = min(amount, room_of_way(arcs, way))
         for number in way:
             # An arc's number is even and that of its way back is one more.
             back = number + 1 - 2 * (number % 2)

@@ -139,13 +139,18 @@ def best_waters(futures, holder, weighed, behind):
     return waters, held
 
 
-def prices_of_children(curves, waters, price):
-    """Prices for children with these curves and waters, their sum as near to their parent's price as it can be."""
+def lowest_prices(curves, waters):
+    """The lowest price that each of some waters can have on its curve."""
+    return [price_of_unit(curve, water) for curve, water in zip(curves, waters)]
+
+
+def prices_of_children(curves, waters, total):
+    """Prices for children with these curves and waters, their sum as near to a total as it can be."""
+    lowest = lowest_prices(curves, waters)
+    left = max(0, total - sum(lowest))
     prices = []
-    left = price - sum([price_of_unit(curve, water) for curve, water in zip(curves, waters)])
-    for curve, water in zip(curves, waters):
-        least = price_of_unit(curve, water)
-        prices.append(nearest_price(curve, water, least + max(0, left)))
+    for curve, water, least in zip(curves, waters, lowest):
+        prices.append(nearest_price(curve, water, least + left))
         left -= prices[-1] - least
     return prices
 
@@ -154,11 +159,10 @@ def best_prices(futures, holder, weighed):
     """Tree prices whose bound is the greatest mean, both in parts of the common bottom of all chances."""
     in_month, behind = tree_curves(futures, holder, weighed)
     waters, _ = best_waters(futures, holder, weighed, behind)
-    prices = [0] * len(futures)
-    prices[0] = nearest_price(in_month[0], waters[0], 0)
+    prices = [nearest_price(in_month[0], waters[0], 0)] + [0] * (len(futures) - 1)
     for parent, children in enumerate(children_of(futures)):
-        curves = [in_month[child] for child in children]
-        shared = prices_of_children(curves, [waters[child] for child in children], prices[parent])
+        curves = [in_month[index] for index in children]
+        shared = prices_of_children(curves, [waters[index] for index in children], prices[parent])
         for child, price in zip(children, shared):
             prices[child] = price
     return prices

@@ -55,8 +55,9 @@ def times(one, other):
 
 
 def divided(one, other):
-    """The first ratio divided by the second one, which is positive."""
-    return ratio(one[0] * other[1], one[1] * other[0])
+    """The first ratio divided by the second one, which is not 0."""
+    top, bottom = one[0] * other[1], one[1] * other[0]
+    return ratio(top, bottom) if bottom > 0 else ratio(-top, -bottom)
 
 
 def excess(one, other):

@@ -92,29 +92,40 @@ def add_holds(arcs, river, worths, index, month):
         add_arc(arcs, place, place_in(river, None), capacity - end, 0)
 
 
-def best_river(river, worths):
-    """The greatest worth of a river, a best river plan, and river prices; NoPlan is raised if there are none."""
-    sink = place_in(river, None)
-    months = range(months_of(river))
+def river_arcs(river, worths):
+    """All arcs of a river, and for each dam and month the numbers of those by which its water leaves."""
     arcs = []
     releasing = []
     for index in range(len(river)):
         rows = []
-        for month in months:
+        for month in range(months_of(river)):
             add_holds(arcs, river, worths, index, month)
             rows.append(add_releases(arcs, river, worths, index, month))
         releasing.append(rows)
+    return arcs, releasing
+
+
+def send_all_water(arcs, river):
+    """Send all that is held at first and all inflows in the best way."""
+    sink = place_in(river, None)
     for index, (dam, _, _) in enumerate(river):
         send(arcs, place_in(river, (index, 0)), dam[1], sink)
-        for month in months:
-            send(arcs, place_in(river, (index, month)), dam[3][month], sink)
+        for month, inflow in enumerate(dam[3]):
+            send(arcs, place_in(river, (index, month)), inflow, sink)
+
+
+def best_river(river, worths):
+    """The greatest worth of a river, a best river plan, and river prices; NoPlan is raised if there are none."""
+    arcs, releasing = river_arcs(river, worths)
+    send_all_water(arcs, river)
     held, worth = divmod(worth_of_arcs(arcs), worth_of_ends(worths))
     if held < sum([dam[2] for dam, _, _ in river]):
         raise NoPlan("not all ends can be held")
-    plan = tuple([tuple([(sent_through(arcs, numbers), 1) for numbers in rows]) for rows in releasing])
-    gains, _ = best_gains(arcs, sink)
-    prices = [tuple([gains[place_in(river, (index, month))] for month in months]) for index in range(len(river))]
-    return worth, plan, tuple(prices)
+    plan = [tuple([(sent_through(arcs, numbers), 1) for numbers in rows]) for rows in releasing]
+    gains, _ = best_gains(arcs, place_in(river, None))
+    months = months_of(river)
+    prices = [tuple(gains[first:first + months]) for first in range(0, len(river) * months, months)]
+    return worth, tuple(plan), tuple(prices)
 
 
 def river_worth(river, worths):
@@ -172,34 +183,33 @@ def next_price(river, prices, index, month):
     return 0 if at is None else prices[at[0]][at[1]]
 
 
-def next_prices(river, prices, index):
-    """The next prices of all months of a dam."""
-    return [next_price(river, prices, index, month) for month in range(months_of(river))]
-
-
 def is_river_prices(river, value):
     """Whether the value is river prices."""
     if not (isinstance(value, tuple) and len(value) == len(river)):
         return False
     if not all(is_prices(prices, months_of(river)) for prices in value):
         return False
-    for index, prices in enumerate(value):
-        if any([price < behind for price, behind in zip(prices, next_prices(river, value, index))]):
-            return False
-    return True
+    return all([
+        price >= next_price(river, value, index, month)
+        for index, prices in enumerate(value)
+        for month, price in enumerate(prices)
+    ])
+
+
+def dearer_worths(river, some, prices, index):
+    """The worths of a dam with the next price of each month added to all prices of its pairs."""
+    return [
+        [(amount, price + next_price(river, prices, index, month)) for amount, price in pairs]
+        for month, pairs in enumerate(some)
+    ]
 
 
 def bound_of_river(river, worths, prices):
     """The bound of some river prices, which no river plan is worth more than."""
-    bound = 0
-    for index, (dam, _, _) in enumerate(river):
-        behind = next_prices(river, prices, index)
-        dearer = [
-            [(amount, price + more) for amount, price in pairs]
-            for pairs, more in zip(worths[index], behind)
-        ]
-        bound += bound_of_prices(dam, dearer, prices[index])
-    return bound
+    return sum([
+        bound_of_prices(dam, dearer_worths(river, worths[index], prices, index), prices[index])
+        for index, (dam, _, _) in enumerate(river)
+    ])
 
 
 def shows_river_prices(river, worths, value):

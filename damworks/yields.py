@@ -1,8 +1,8 @@
 """What a dam can give for sure in every month."""
 
-from damworks.dams import MOST_WATER, check_dam, check_demands, check_has_plan, check_inflows
-from damworks.errors import BadCapacity, BadDemands
-from damworks.ratios import is_between, is_row_between, least_ratio, ratio
+from damworks.dams import check_capacity, check_dam, check_demands, check_has_plan, check_inflows
+from damworks.errors import BadDemands
+from damworks.ratios import is_row_between, least_ratio, ratio
 
 
 def windows(months):
@@ -77,8 +77,7 @@ def firm_share(dam, demands):
 
 def round_yield(capacity, inflows):
     """The greatest ratio that can be given in every month of years without an end, the dam full at some time."""
-    if not is_between(capacity, 0, MOST_WATER):
-        raise BadCapacity("not a capacity")
+    check_capacity(capacity)
     check_inflows(inflows)
     months = len(inflows)
     twice = inflows + inflows
