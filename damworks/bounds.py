@@ -33,27 +33,28 @@ def papers(dam, floors, ceilings):
     return dry + [("wet", first, last) for first, last in months if is_wet(dam, ceilings, (first, last))]
 
 
-def held_ranges(dam, floors, ceilings):
-    """The least and the most that can be held before each month, and behind the last one with the end held."""
-    capacity, least, end, inflows = dam
-    most = least
-    ranges = [(least, most)]
-    for inflow, floor, ceiling in zip(inflows, floors, ceilings):
-        least = max(0, least + inflow - ceiling)
-        most = min(capacity, most + inflow - floor)
-        ranges.append((least, most))
-    ranges[-1] = (max(least, end), most)
-    return ranges
+def least_levels(dam, ceilings):
+    """The least that can be held before each month, and behind the last one with the end held."""
+    _, held, end, inflows = dam
+    levels = [held]
+    for inflow, ceiling in zip(inflows, ceilings):
+        held = max(0, held + inflow - ceiling)
+        levels.append(held)
+    levels[-1] = max(held, end)
+    return levels
 
 
 def plan_between(dam, floors, ceilings):
-    """A plan of integers between bounds that are known to have one, made from the last month on."""
-    ranges = held_ranges(dam, floors, ceilings)
-    held = ranges[-1][0]
+    """A plan of integers between bounds that are known to have one.
+
+    It is made from the last month on: no more is held than must be, by the ceilings before or by the floors behind.
+    """
+    levels = least_levels(dam, ceilings)
+    held = levels[-1]
     releases = []
     for month in range(len(floors) - 1, -1, -1):
         inflow = dam[3][month]
-        before = max(ranges[month][0], held - inflow + floors[month])
+        before = max(levels[month], held - inflow + floors[month])
         releases.append((before + inflow - held, 1))
         held = before
     return tuple(releases[::-1])
@@ -78,7 +79,5 @@ def shows_bounded(dam, floors, ceilings, value):
     found = papers(dam, floors, ceilings)
     if found == []:
         return value is None
-    if not (isinstance(value, tuple) and len(value) == 3):
-        return False
     # Only integers may be looked for among the papers: True would be found in the place of 1.
-    return is_window(value[1:], len(floors)) and value in found
+    return isinstance(value, tuple) and is_window(value[1:], len(floors)) and value in found

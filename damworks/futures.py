@@ -55,7 +55,7 @@ def check_futures(futures):
 
 def is_holder(value):
     """Whether the value is a holder: a dam without its inflows."""
-    return isinstance(value, tuple) and len(value) == 3 and is_dam(value + ((0,),))
+    return isinstance(value, tuple) and is_dam(value + ((0,),))
 
 
 def check_tree(futures, holder, worths):
@@ -147,7 +147,7 @@ def lowest_prices(curves, waters):
 def prices_of_children(curves, waters, total):
     """Prices for children with these curves and waters, their sum as near to a total as it can be."""
     lowest = lowest_prices(curves, waters)
-    left = max(0, total - sum(lowest))
+    left = total - sum(lowest)
     prices = []
     for curve, water, least in zip(curves, waters, lowest):
         prices.append(nearest_price(curve, water, least + left))

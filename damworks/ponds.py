@@ -1,8 +1,9 @@
 """Ponds: small dams of which only the chances of the inflows are known, and what becomes of them in the long run."""
 
-from damworks.equations import equation_of, solutions
 from damworks.errors import BadChances, BadLevel, BadMonths, BadPond, BadRelease, BadRound, BadShare, Unsettled
-from damworks.ratios import is_between, is_less, is_ratio, is_row_of_ratios, plus, sum_of_ratios, times
+from damworks.ratios import (
+    equation_of, is_between, is_less, is_ratio, is_row_of_ratios, plus, solutions, sum_of_ratios, times
+)
 
 MOST_CAPACITY = 8
 LEAST_INFLOWS = 2
@@ -136,6 +137,37 @@ def found_failing(pond, chances):
     return sum_of_ratios([chance for chance, given, _ in settled_months(pond, chances) if given < pond[1]])
 
 
+def does_not_fail(pond, month):
+    """Whether a month gives the whole release."""
+    return month[1] == pond[1]
+
+
+def only_gives(pond, month):
+    """Whether a month gives the whole release and spills nothing."""
+    return month[1] == pond[1] and month[2] == 0
+
+
+def count_of_month(_):
+    """What a month adds to a number of months, whatever it can be."""
+    return (1, 1)
+
+
+def chance_of_spill(months):
+    """The chance that something is spilled in a month, by all that it can be."""
+    return sum_of_ratios([month[0] for month in months if month[2] > 0])
+
+
+def sums_of_levels(pond, chances, goes_on, adds):
+    """For each level the mean of what a month from it on adds, and all later ones as long as each one goes on."""
+    count = count_of_levels(pond)
+    rows = []
+    for level in range(count):
+        months = months_from(pond, chances, level)
+        going = [(month[3], month[0]) for month in months if goes_on(pond, month)]
+        rows.append(equation_of(count, level, going, adds(months)))
+    return solutions(rows)
+
+
 def pond_steps(pond, chances, level, months):
     """The chances of all levels so many months behind a level."""
     check_pond_and_chances(pond, chances)
@@ -177,13 +209,7 @@ def mean_wait(pond, chances, level):
     check_pond_and_chances(pond, chances)
     check_level(pond, level)
     check_settles(pond[1], chances)
-    count = count_of_levels(pond)
-    rows = []
-    for place in range(count):
-        months = months_from(pond, chances, place)
-        going = [(behind, chance) for chance, given, _, behind in months if given == pond[1]]
-        rows.append(equation_of(count, place, going, (1, 1)))
-    return solutions(rows)[level]
+    return sums_of_levels(pond, chances, does_not_fail, count_of_month)[level]
 
 
 def spill_first(pond, chances, level):
@@ -191,13 +217,7 @@ def spill_first(pond, chances, level):
     check_pond_and_chances(pond, chances)
     check_level(pond, level)
     check_settles(pond[1], chances)
-    count = count_of_levels(pond)
-    rows = []
-    for place in range(count):
-        months = months_from(pond, chances, place)
-        going = [(behind, chance) for chance, given, spilled, behind in months if given == pond[1] and spilled == 0]
-        rows.append(equation_of(count, place, going, sum_of_ratios([month[0] for month in months if month[2] > 0])))
-    return solutions(rows)[level]
+    return sums_of_levels(pond, chances, only_gives, chance_of_spill)[level]
 
 
 def pair_chance(pond, chances, first, second, months):

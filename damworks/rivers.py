@@ -1,8 +1,14 @@
-"""Rivers: dams above other dams, what their water is worth at most, and prices that show it."""
+"""Rivers: dams above other dams, what their water is worth at most, and prices that show it.
+
+A place is a number: each dam in each month has one, in their order, and the sink, where all water goes in the end, has
+the greatest. An arc is a list [tail, head, room, worth]: how much more can go from the place that is its tail to that
+which is its head, and what each unit of that is worth. Behind each arc stands its way back, whose room is what goes
+through the arc. Without any water there is no way round in circles, and there is always a way to the sink with room
+for more.
+"""
 
 from damworks.dams import can_hold, is_dam, levels_from
 from damworks.errors import BadRiver, BadRiverWorths, NoPlan
-from damworks.flows import add_arc, best_gains, send, sent_through, worth_of_arcs
 from damworks.prices import bound_of_prices, is_prices
 from damworks.ratios import is_between, is_row_of_ratios, plus, sum_of_ratios
 from damworks.worths import is_worths, releases_worth
@@ -47,6 +53,70 @@ def check_river_and_worths(river, worths):
             raise BadRiverWorths(index)
 
 
+def add_arc(arcs, tail, head, room, worth):
+    """Add an arc and its way back; return the number of the arc."""
+    arcs.append([tail, head, room, worth])
+    arcs.append([head, tail, 0, -worth])
+    return len(arcs) - 2
+
+
+def sent_through(arcs, numbers):
+    """What goes through some arcs together."""
+    return sum([arcs[number + 1][2] for number in numbers])
+
+
+def worth_of_arcs(arcs):
+    """What all that goes through all arcs is worth."""
+    return sum([arcs[number][3] * arcs[number + 1][2] for number in range(0, len(arcs), 2)])
+
+
+def best_gains(arcs, sink):
+    """What one unit more in each place adds at most, and the arcs by which it leaves its place for that."""
+    gains = [None] * sink + [0]
+    leaving = [None] * sink
+    is_settled = False
+    while not is_settled:
+        is_settled = True
+        # The last places come first: most water goes on to later ones, so that few rounds are enough.
+        for number in range(len(arcs) - 1, -1, -1):
+            tail, head, room, worth = arcs[number]
+            if room > 0 and gains[head] is not None:
+                gain = worth + gains[head]
+                if gains[tail] is None or gains[tail] < gain:
+                    gains[tail] = gain
+                    leaving[tail] = number
+                    is_settled = False
+    return gains, leaving
+
+
+def best_way(arcs, place, sink):
+    """The numbers of the arcs on which one unit more goes best from a place to the sink."""
+    _, leaving = best_gains(arcs, sink)
+    way = []
+    while place != sink:
+        way.append(leaving[place])
+        place = arcs[leaving[place]][1]
+    return way
+
+
+def room_of_way(arcs, way):
+    """How much more can go on all arcs of a way."""
+    return min([arcs[number][2] for number in way])
+
+
+def send(arcs, place, amount, sink):
+    """Send so much from a place to the sink in the best way, what has been sent before turned where that is better."""
+    while amount > 0:
+        way = best_way(arcs, place, sink)
+        sent = min(amount, room_of_way(arcs, way))
+        for number in way:
+            # An arc's number is even and that of its way back is one more.
+            back = number + 1 - 2 * (number % 2)
+            arcs[number][2] -= sent
+            arcs[back][2] += sent
+        amount -= sent
+
+
 def next_month(river, index, month):
     """The pair (dam, month) to which what a dam releases in a month comes, None if it is lost."""
     _, target, delay = river[index]
@@ -88,8 +158,8 @@ def add_holds(arcs, river, worths, index, month):
     if month + 1 < months_of(river):
         add_arc(arcs, place, place + 1, capacity, 0)
     else:
+        # What is more than the end may as well be let go.
         add_arc(arcs, place, place_in(river, None), end, worth_of_ends(worths))
-        add_arc(arcs, place, place_in(river, None), capacity - end, 0)
 
 
 def river_arcs(river, worths):

@@ -217,6 +217,8 @@ class EvenerTest(unittest.TestCase):
         right = ((1, 1), (3, 1))
         check_refused(self, is_evener, (right, right), 0, "BadNumbers", BAD_NUMBERS)
         check_refused(self, is_evener, (right, right), 1, "BadNumbers", BAD_NUMBERS + (right[:1], right + right[:1]))
+        for numbers in ((), right[:1] * 13):
+            self.assertEqual(error_of(is_evener, numbers, numbers), ("BadNumbers", {}))
         for value in BAD_RATIOS:
             self.assertEqual(error_of(is_evener, (value,), ((1, 1),)), ("BadNumbers", {}))
             self.assertEqual(error_of(is_evener, ((1, 1),), (value,)), ("BadNumbers", {}))

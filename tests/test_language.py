@@ -139,6 +139,53 @@ class LanguageTest(unittest.TestCase):
                 self.assertRegex(name, r"^_?[A-Za-z][A-Za-z0-9_]*$")
                 self.assertIsNone(re.search(BARRED, name))
 
+    def test_words(self):
+        for _, text, tree in modules():
+            self.assertIsNone(re.search(r"_wall|_WallAttr|dataclass|overload|contextmanager", text))
+            for node in ast.walk(tree):
+                if isinstance(node, ast.Constant) and isinstance(node.value, str):
+                    self.assertNotIn("%", node.value)
+
+    def test_is_stands_beside_plain_values(self):
+        for _, _, tree in modules():
+            for node in ast.walk(tree):
+                if isinstance(node, ast.Compare) and any(isinstance(op, (ast.Is, ast.IsNot)) for op in node.ops):
+                    self.assertTrue(all(isinstance(one, ast.Constant) for one in node.comparators))
+
+    def test_loops_that_are_kept(self):
+        kept = {"zip", "enumerate", "reversed", "range", "map", "combinations", "product", "permutations"}
+        for _, _, tree in modules():
+            for node in ast.walk(tree):
+                if isinstance(node, (ast.Assign, ast.Return)) and isinstance(node.value, ast.Call):
+                    self.assertNotIn(getattr(node.value.func, "id", None), kept)
+
+    def test_generator_expressions(self):
+        takers = {"list", "tuple", "dict", "sorted", "sum", "min", "max", "any", "all"}
+        for _, _, tree in modules():
+            for node in ast.walk(tree):
+                for inner in ast.iter_child_nodes(node):
+                    if isinstance(inner, ast.GeneratorExp):
+                        self.assertIsInstance(node, ast.Call)
+                        self.assertIn(node.func.id, takers)
+
+    def test_comprehensions_have_names_of_their_own(self):
+        comprehensions = (ast.ListComp, ast.GeneratorExp, ast.DictComp, ast.SetComp)
+        for _, _, tree in modules():
+            for function in ast.walk(tree):
+                if isinstance(function, ast.FunctionDef):
+                    inner = {
+                        id(name) for node in ast.walk(function) if isinstance(node, comprehensions)
+                        for part in node.generators for name in ast.walk(part.target)
+                    }
+                    stored = [
+                        node for node in ast.walk(function)
+                        if isinstance(node, ast.Name) and isinstance(node.ctx, ast.Store) and node.id != "_"
+                    ]
+                    outer = {node.id for node in stored if id(node) not in inner}
+                    outer |= {argument.arg for argument in function.args.args}
+                    found = {node.id for node in stored if id(node) in inner}
+                    self.assertFalse(outer & found, function.name)
+
 
 if __name__ == "__main__":
     unittest.main()

@@ -176,6 +176,18 @@ class ShowsTest(unittest.TestCase):
         self.check_pumping((2, 1, 2, (1, 2)), (9, 1))
         self.check_pumping((1, 1, 1, (1, 1)), (1, 3, 3))
 
+    def test_all_halves_within_the_bounds_and_beyond(self):
+        for house in ((1, 1, 2, (1, 1)), (1, 2, 1, (1, 1)), (0, 2, 2, (1, 1)), (2, 1, 1, (1, 1))):
+            right, others = [], []
+            halves = [Fraction(number, 2) for number in range(-1, 6)]
+            within = [ratios(one) + ratios(other) for one, other in pumpings(house, 2, 2) if sum(one) == sum(other)]
+            for amounts in itertools.product(halves, repeat=4):
+                value = ratios(amounts)
+                (right if value in within else others).append((value[:2], value[2:]))
+            # Prices that stay bring nothing, however much is pumped up and let down again.
+            self.assertEqual(len(right), len(within))
+            check_shows(self, shows_pumping, (house, (2, 2)), right, others)
+
     def test_pumping_thirds(self):
         house, prices = (1, 1, 1, (1, 1)), (2, 2)
         self.assertIs(shows_pumping(house, prices, (((1, 3), (0, 1)), ((1, 3), (0, 1)))), True)
