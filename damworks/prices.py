@@ -23,19 +23,23 @@ def nearest_price(curve, water, price):
     return min(nearest, price_of_unit(curve, water - 1))
 
 
-def found_prices(dam, worths):
-    """Prices whose bound is the best worth of a dam that is known to have a plan."""
-    capacity, held, _, inflows = dam
-    curves = level_curves(dam, worths)
+def prices_on_curves(start, inflows, worths, curves):
+    """Prices whose bound is the best worth, by the curves of what is held."""
+    held = start
     price = 0
     prices = []
-    for inflow, pairs, curve, kept in zip(inflows, worths, curves[1:], best_levels(dam, worths, curves)):
-        in_month = curve_in_month(curve, pairs, capacity + inflow)
+    for inflow, pairs, curve, kept in zip(inflows, worths, curves[1:], best_levels(start, inflows, worths, curves)):
+        in_month = curve_in_month(curve, pairs, held + inflow)
         # A price that changes no more than it must rises only over a full dam and falls only over an empty one.
         price = nearest_price(in_month, held + inflow, price)
         prices.append(price)
         held = kept
     return tuple(prices)
+
+
+def found_prices(dam, worths):
+    """Prices whose bound is the best worth of a dam that is known to have a plan."""
+    return prices_on_curves(dam[1], dam[3], worths, level_curves(dam, worths))
 
 
 def water_prices(dam, worths):

@@ -114,14 +114,19 @@ def curve_before(curve, inflow, capacity):
     return (lowest, worth_on_curve(curve, lowest + inflow), steps)
 
 
-def level_curves(dam, worths):
-    """The curves of what is held before each month, and behind the last one."""
-    capacity, _, end, inflows = dam
-    curves = [(end, 0, [(0, capacity - end)])]
-    for inflow, pairs in reversed(list(zip(inflows, worths))):
+def curves_of_levels(capacities, end, inflows, worths):
+    """The curves of what is held before each month, and behind the last one, each with a capacity of its own."""
+    curves = [(end, 0, [(0, capacities[-1] - end)])]
+    for capacity, inflow, pairs in reversed(list(zip(capacities, inflows, worths))):
         in_month = curve_in_month(curves[-1], pairs, capacity + inflow)
         curves.append(curve_before(in_month, inflow, capacity))
     return curves[::-1]
+
+
+def level_curves(dam, worths):
+    """The curves of what a dam holds before each month, and behind the last one."""
+    capacity, _, end, inflows = dam
+    return curves_of_levels((capacity,) * (len(inflows) + 1), end, inflows, worths)
 
 
 def greatest_worth(dam, worths):
@@ -141,21 +146,26 @@ def best_hold(curve, pairs, water):
     return held
 
 
-def best_levels(dam, worths, curves):
+def best_levels(start, inflows, worths, curves):
     """What is held behind each month with a best plan, integers."""
-    held = dam[1]
+    held = start
     behind = []
-    for inflow, pairs, curve in zip(dam[3], worths, curves[1:]):
+    for inflow, pairs, curve in zip(inflows, worths, curves[1:]):
         held = best_hold(curve, pairs, held + inflow)
         behind.append(held)
     return behind
 
 
+def releases_between(start, inflows, behind):
+    """What is released in each month if so much is held behind each one."""
+    return [held + inflow - kept for held, inflow, kept in zip([start] + behind, inflows, behind)]
+
+
 def best_releases(dam, worths):
     """What is released in each month with a best plan, integers."""
-    behind = best_levels(dam, worths, level_curves(dam, worths))
-    before = [dam[1]] + behind
-    return [held + inflow - kept for held, inflow, kept in zip(before, dam[3], behind)]
+    _, start, _, inflows = dam
+    behind = best_levels(start, inflows, worths, level_curves(dam, worths))
+    return releases_between(start, inflows, behind)
 
 
 def best_worth(dam, worths):

@@ -212,6 +212,24 @@ def half_plans(dam):
     return [plan for plan, held in plans if held >= 2 * end]
 
 
+def some_plan(dam, dice):
+    """A plan of a dam with some halves and thirds, as fractions, None if the dam has none."""
+    capacity, held, end, inflows = dam
+    if not has_plan(dam):
+        return None
+    plan = []
+    for month, inflow in enumerate(inflows):
+        there = held + inflow
+        # What must be held behind this month for the end, if nothing is released later.
+        needed = max(0, end - sum(inflows[month + 1:]))
+        most = there - needed
+        least = max(Fraction(0), Fraction(there - capacity))
+        step = Fraction(1, dice.choice((1, 1, 2, 3)))
+        plan.append(dice.choice((least, most, min(most, least + step * dice.randint(0, 9)))))
+        held = there - plan[-1]
+    return tuple(map(Fraction, plan))
+
+
 def worth_of(pairs, release):
     """What a release, a half of an integer, is worth, half a unit by half a unit."""
     prices = [price for amount, price in pairs for _ in range(2 * amount)]

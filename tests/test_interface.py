@@ -37,6 +37,12 @@ INTERFACE = {
         spells(inflows, level)""",
     "bounds": """bounded_plan(dam, floors, ceilings) bounded_paper(dam, floors, ceilings)
         shows_bounded(dam, floors, ceilings, value)""",
+    "salts": "salt_run(dam, plan, salts, first) salt_left(dam, plan, salts, first)",
+    "markets": "market(dam, users) shows_market(dam, users, value)",
+    "leakworths": """leak_worth(dam, loss, worths) leak_plan(dam, loss, worths) leak_prices(dam, loss, worths)
+        shows_leak_plan(dam, loss, worths, value) shows_leak_prices(dam, loss, worths, value)""",
+    "joints": """joint_yield(one, other) joint_plan(one, other) joint_paper(one, other)
+        shows_joint(one, other, value)""",
 }
 
 
