@@ -42,31 +42,53 @@ def read_number(text, place, most):
     return number, behind
 
 
-def behind_colon(text, place):
-    """The place behind the colon that must come next."""
+def is_sign(text, place, sign):
+    """Whether a sign, and not the end of the text, stands at a place."""
+    return text[place:place + 1] == sign
+
+
+def behind_sign(text, place, sign):
+    """The place behind the sign that must come next."""
     place = behind_spaces(text, place)
-    if text[place:place + 1] != ":":
+    if not is_sign(text, place, sign):
         raise InvalidText(place)
     return place + 1
 
 
-def read_inflows(text, place):
-    """The tuple of the inflows that are all of the text from this place on."""
+def read_inflows(text, place, least, most):
+    """The tuple of the next inflows, as many as stand there, and the first place behind them that is no space.
+
+    At least the least number of them must stand there, and no more than the most.
+    """
     inflows = []
-    while inflows == [] or place < len(text):
-        if len(inflows) == MOST_MONTHS:
+    while len(inflows) < least or (place < len(text) and text[place] in DIGITS):
+        if len(inflows) == most:
             raise InvalidText(place)
         inflow, place = read_number(text, place, MOST_WATER)
         inflows.append(inflow)
         place = behind_spaces(text, place)
-    return tuple(inflows)
+    return tuple(inflows), place
+
+
+def read_next_dam(text, place, least, most):
+    """The dam that comes next, with a number of months from the least to the most, and the place behind it."""
+    capacity, place = read_number(text, place, MOST_WATER)
+    start, place = read_number(text, place, capacity)
+    end, place = read_number(text, place, capacity)
+    inflows, place = read_inflows(text, behind_sign(text, place, ":"), least, most)
+    return (capacity, start, end, inflows), place
+
+
+def check_text(text):
+    """Raise NotText unless the value is a string."""
+    if not isinstance(text, str):
+        raise NotText("not a string")
 
 
 def read_dam(text):
     """The dam that a text names."""
-    if not isinstance(text, str):
-        raise NotText("not a string")
-    capacity, place = read_number(text, 0, MOST_WATER)
-    start, place = read_number(text, place, capacity)
-    end, place = read_number(text, place, capacity)
-    return (capacity, start, end, read_inflows(text, behind_colon(text, place)))
+    check_text(text)
+    dam, place = read_next_dam(text, 0, 1, MOST_MONTHS)
+    if place < len(text):
+        raise InvalidText(place)
+    return dam

@@ -86,12 +86,12 @@ def check_worths_refused(test, function, args):
 
 def check_shows(test, function, args, right, others=()):
     """Of values of every kind and the others, the function shows just the right ones."""
+    known = {repr(value) for value in right}
     wrong = tuple(value for value in KINDS if value is not None) + tuple(others)
     for value in wrong + (None,):
         with test.subTest(function=function.__name__, args=args, value=value):
             before = copy.deepcopy(value)
-            expected = any(same(value, one) for one in right)
-            test.assertIs(function(*args, value), expected)
+            test.assertIs(function(*args, value), repr(value) in known)
             test.assertEqual(value, before)
     for value in right:
         with test.subTest(function=function.__name__, args=args, value=value):

@@ -4,6 +4,8 @@ import importlib
 import inspect
 import unittest
 
+from damworks.books import Book
+
 INTERFACE = {
     "dams": "levels(dam, plan) run(dam, demands)",
     "damtext": "write_dam(dam) read_dam(text)",
@@ -43,7 +45,17 @@ INTERFACE = {
         shows_leak_plan(dam, loss, worths, value) shows_leak_prices(dam, loss, worths, value)""",
     "joints": """joint_yield(one, other) joint_plan(one, other) joint_paper(one, other)
         shows_joint(one, other, value)""",
+    "rounds": """round_worth(capacity, inflows, worths) round_prices(capacity, inflows, worths)
+        shows_round(capacity, inflows, worths, value)""",
+    "ages": "ages(dam, plan) oldest(dam, plan)",
+    "rivertext": "write_river(river) read_river(text)",
+    "policies": """best_mean(capacity, chances, pieces) policy_shares(capacity, chances, pieces)
+        policy_values(capacity, chances, pieces) shows_shares(capacity, chances, pieces, value)
+        shows_policy_values(capacity, chances, pieces, value)""",
 }
+
+BOOK = """__init__(self, capacity, start) month(self, inflow, release) held(self) months(self) totals(self) lowest(self)
+    highest(self) undo(self)"""
 
 
 class InterfaceTest(unittest.TestCase):
@@ -57,6 +69,15 @@ class InterfaceTest(unittest.TestCase):
                     self.assertTrue(inspect.isfunction(function))
                     self.assertEqual(function.__module__, "damworks." + name)
                     self.assertEqual(str(inspect.signature(function)), f"({arguments})")
+
+    def test_the_class_of_books(self):
+        self.assertTrue(inspect.isclass(Book))
+        self.assertEqual(Book.__module__, "damworks.books")
+        for entry in BOOK.replace("\n", " ").split(")")[:-1]:
+            word, arguments = entry.strip().split("(")
+            with self.subTest(word):
+                # Each method is defined in the class itself.
+                self.assertEqual(str(inspect.signature(vars(Book)[word])), f"({arguments})")
 
 
 if __name__ == "__main__":
