@@ -1,7 +1,7 @@
 """Ages of water: the oldest water leaves first.
 
 Water is counted in pairs (came, amount), the oldest first: the month in which it came and how much of it is there, a
-ratio greater than 0. What is held at first came in the month before the first one.
+ratio. What is held at first came in the month before the first one.
 """
 
 from damworks.dams import check_dam, check_plan
@@ -9,7 +9,7 @@ from damworks.ratios import divided, least_ratio, minus, sum_of_ratios, times
 
 
 def parted(waters, release):
-    """The oldest of some waters that make up a release, and those that are left."""
+    """The oldest of some waters that make up a release, and those that are left; no amount is 0."""
     released = []
     kept = []
     left = release
@@ -28,11 +28,10 @@ def waters_of_months(dam, plan):
     check_dam(dam)
     check_plan(dam, plan)
     _, start, _, inflows = dam
-    kept = [(-1, (start, 1))] if start > 0 else []
+    kept = [(-1, (start, 1))]
     months = []
     for month, (inflow, release) in enumerate(zip(inflows, plan)):
-        come = [(month, (inflow, 1))] if inflow > 0 else []
-        released, kept = parted(kept + come, release)
+        released, kept = parted(kept + [(month, (inflow, 1))], release)
         months.append((released, kept))
     return months
 

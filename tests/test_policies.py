@@ -246,9 +246,19 @@ class ShowsTest(unittest.TestCase):
         ):
             found.append((one, *rest))
         # The same pair twice, its ratio in two parts.
-        half = ratios([Fraction(top, 2 * bottom)])[0]
-        found.append(((held, release, half), (held, release, half), *rest))
+        for part in (Fraction(1, 2), Fraction(1, 3)):
+            parts = ratios([part * Fraction(top, bottom), (1 - part) * Fraction(top, bottom)])
+            found.append(((held, release, parts[0]), (held, release, parts[1]), *rest))
         return found
+
+    def test_shares_that_are_not_positive(self):
+        self.assertIs(shows_shares(1, HALVES, SIX, ((0, 0, HALVES[0]), (1, 1, HALVES[0]))), True)
+        self.assertIs(shows_shares(1, HALVES, SIX, ((0, 0, HALVES[0]), (1, 0, (0, 1)), (1, 1, HALVES[0]))), False)
+        # All else is right: they sum to 1, a month leaves them as they are, and the mean is the best one.
+        full = (1, ((0, 1), (1, 1)), ())
+        self.assertIs(shows_shares(*full, ((1, 0, (1, 3)), (1, 1, (2, 3)))), True)
+        self.assertIs(shows_shares(*full, ((1, 0, (2, 1)), (1, 1, (-1, 1)))), False)
+        self.assertIs(shows_shares(*full, ((1, 0, (-1, 1)), (1, 1, (2, 1)))), False)
 
     def test_shares_that_are_mixed(self):
         args = (2, ((0, 1), (1, 1)), ((1, 3), (1, 1)))
